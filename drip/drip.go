@@ -1,0 +1,103 @@
+// Package drip: a pump, and what it may give: see DOC.md.
+package drip
+
+import (
+	"drip/agenda"
+	"drip/api"
+	"drip/window"
+)
+
+// Pump is one.
+type Pump struct {
+	now      int
+	channels []channelState
+	windows  []*window.Window
+	later    agenda.Agenda
+}
+
+type channelState struct {
+	rate int
+	end  *agenda.Entry // of the rate; nil, if it has none
+}
+
+// New makes a pump (P3).
+func New(c api.Config) (*Pump, api.Errno) {
+	if !configHolds(c) {
+		return nil, api.ErrArg
+	}
+	p := &Pump{channels: make([]channelState, c.Channels)}
+	for _, l := range c.Limits {
+		p.windows = append(p.windows, window.New(l))
+	}
+	return p, api.OK
+}
+
+// Basal sets a channel's rate (P4).
+func (p *Pump) Basal(channel int, rate int, ticks int) api.Errno {
+	if !p.hasChannel(channel) || !within(rate, 0, api.MaxDose) || !within(ticks, 0, api.MaxTicks) {
+		return api.ErrArg
+	}
+	c := &p.channels[channel]
+	p.later.Cancel(c.end) // or the end of the rate before would end this one
+	c.rate, c.end = rate, nil
+	if ticks > 0 {
+		c.end = p.later.Add(p.now+ticks, func() { c.rate, c.end = 0, nil })
+	}
+	return api.OK
+}
+
+// Run lets time go by (P5).
+func (p *Pump) Run(ticks int) ([]api.Dose, api.Errno) {
+	if !within(ticks, 1, api.MaxRun) {
+		return nil, api.ErrArg
+	}
+	if p.now+ticks > api.MaxTicks {
+		return nil, api.ErrMany
+	}
+	var doses []api.Dose
+	for range ticks {
+		doses = p.giveTick(doses)
+		p.pass()
+	}
+	return doses, api.OK
+}
+
+// Room tells how much could be given now (P6).
+func (p *Pump) Room(channel int) (int, api.Errno) {
+	if !p.hasChannel(channel) {
+		return 0, api.ErrArg
+	}
+	return p.room(channel), api.OK
+}
+
+// Wait tells how long it takes till so much could be given (P6).
+func (p *Pump) Wait(channel int, amount int) (int, bool, api.Errno) {
+	if !p.hasChannel(channel) || !within(amount, 0, api.MaxDose) {
+		return 0, false, api.ErrArg
+	}
+	ticks, comes := p.wait(channel, amount)
+	return ticks, comes, api.OK
+}
+
+// Order orders an amount (P7).
+func (p *Pump) Order(channel int, amount int, delay int, ticks int) (int, api.Errno) {
+	return 0, api.OK
+}
+
+// Demand asks for an amount at once (P7).
+func (p *Pump) Demand(channel int, amount int) (int, api.Errno) { return 0, api.OK }
+
+// Rest tells what of an order was not given (P7).
+func (p *Pump) Rest(order int) (int, api.Errno) { return 0, api.OK }
+
+// Pause lets a channel rest (P8).
+func (p *Pump) Pause(channel int) api.Errno { return api.OK }
+
+// Resume lets it go on (P8).
+func (p *Pump) Resume(channel int) api.Errno { return api.OK }
+
+// Journal tells what was given (P9).
+func (p *Pump) Journal() string { return "" }
+
+// Open makes a pump that goes on from a journal (P10).
+func Open(c api.Config, journal string) (*Pump, int, api.Errno) { return nil, 0, api.OK }

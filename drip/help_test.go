@@ -1,0 +1,86 @@
+package drip_test
+
+import (
+	"math"
+	"slices"
+	"testing"
+
+	"drip/api"
+	"drip/drip"
+)
+
+// tooSmall and tooGreat are wrong for every number that a call takes.
+var (
+	tooSmall = []int{-1, -2, -1000, math.MinInt32, math.MinInt + 1, math.MinInt}
+	tooGreat = []int{api.MaxCap + 1, math.MaxInt32, math.MaxInt - 1, math.MaxInt}
+)
+
+// wrong: numbers far off and those that are just beyond the bounds.
+func wrong(near ...int) []int {
+	return slices.Concat(near, tooSmall, tooGreat)
+}
+
+func newPump(t *testing.T, channels int, limits ...api.Limit) *drip.Pump {
+	t.Helper()
+	p, e := drip.New(api.Config{Channels: channels, Limits: limits})
+	if p == nil || e != api.OK {
+		t.Fatalf("P3: New(%d, %v): %v, %d", channels, limits, p, e)
+	}
+	return p
+}
+
+func sets(t *testing.T, p *drip.Pump, channel, rate, ticks int) {
+	t.Helper()
+	if e := p.Basal(channel, rate, ticks); e != api.OK {
+		t.Errorf("P4: Basal(%d, %d, %d): %d", channel, rate, ticks, e)
+	}
+}
+
+// runs: want has the tick, the channel and the amount of each dose.
+func runs(t *testing.T, p *drip.Pump, ticks int, want ...[3]int) {
+	t.Helper()
+	doses, e := p.Run(ticks)
+	var got [][3]int
+	for _, d := range doses {
+		got = append(got, [3]int{d.Tick, d.Channel, d.Amount})
+	}
+	if e != api.OK || !slices.Equal(got, want) {
+		t.Errorf("P5: Run(%d) = %v, %d, want %v", ticks, got, e, want)
+	}
+}
+
+func runsNot(t *testing.T, p *drip.Pump, ticks int, want api.Errno) {
+	t.Helper()
+	if doses, e := p.Run(ticks); len(doses) > 0 || e != want {
+		t.Errorf("P5: Run(%d) = %v, %d, want error %d", ticks, doses, e, want)
+	}
+}
+
+// quiet lets many ticks go by at which nothing is given.
+func quiet(t *testing.T, p *drip.Pump, ticks int) {
+	t.Helper()
+	for ; ticks > 0; ticks -= min(ticks, api.MaxRun) {
+		runs(t, p, min(ticks, api.MaxRun))
+	}
+}
+
+func hasRoom(t *testing.T, p *drip.Pump, channel, want int) {
+	t.Helper()
+	if n, e := p.Room(channel); n != want || e != api.OK {
+		t.Errorf("P6: Room(%d) = %d, %d, want %d", channel, n, e, want)
+	}
+}
+
+func waits(t *testing.T, p *drip.Pump, channel, amount, want int) {
+	t.Helper()
+	if n, comes, e := p.Wait(channel, amount); n != want || !comes || e != api.OK {
+		t.Errorf("P6: Wait(%d, %d) = %d, %v, %d, want %d", channel, amount, n, comes, e, want)
+	}
+}
+
+func waitsForEver(t *testing.T, p *drip.Pump, channel, amount int) {
+	t.Helper()
+	if n, comes, e := p.Wait(channel, amount); n != 0 || comes || e != api.OK {
+		t.Errorf("P6: Wait(%d, %d) = %d, %v, %d, want never", channel, amount, n, comes, e)
+	}
+}
