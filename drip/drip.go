@@ -10,14 +10,12 @@ import (
 // Pump is one.
 type Pump struct {
 	now      int
+	lockout  int
 	channels []channelState
 	windows  []*window.Window
 	later    agenda.Agenda
-}
-
-type channelState struct {
-	rate int
-	end  *agenda.Entry // of the rate; nil, if it has none
+	orders   []*order // all there ever were, by their numbers: the rest of one that is over may still be asked for
+	notOver  int      // how many of them are not over
 }
 
 // New makes a pump (P3).
@@ -25,7 +23,7 @@ func New(c api.Config) (*Pump, api.Errno) {
 	if !configHolds(c) {
 		return nil, api.ErrArg
 	}
-	p := &Pump{channels: make([]channelState, c.Channels)}
+	p := &Pump{lockout: c.Lockout, channels: make([]channelState, c.Channels)}
 	for _, l := range c.Limits {
 		p.windows = append(p.windows, window.New(l))
 	}
@@ -81,20 +79,60 @@ func (p *Pump) Wait(channel int, amount int) (int, bool, api.Errno) {
 
 // Order orders an amount (P7).
 func (p *Pump) Order(channel int, amount int, delay int, ticks int) (int, api.Errno) {
-	return 0, api.OK
+	if !p.hasChannel(channel) || !within(amount, 1, api.MaxDose) || !within(delay, 0, api.MaxTicks) || !within(ticks, 1, api.MaxTicks) {
+		return 0, api.ErrArg
+	}
+	if p.full() {
+		return 0, api.ErrMany
+	}
+	return p.take(channel, amount, delay, ticks), api.OK
 }
 
 // Demand asks for an amount at once (P7).
-func (p *Pump) Demand(channel int, amount int) (int, api.Errno) { return 0, api.OK }
+func (p *Pump) Demand(channel int, amount int) (int, api.Errno) {
+	if !p.hasChannel(channel) || !within(amount, 1, api.MaxDose) {
+		return 0, api.ErrArg
+	}
+	c := &p.channels[channel]
+	if p.now < c.free {
+		return 0, api.ErrLock
+	}
+	if p.full() {
+		return 0, api.ErrMany
+	}
+	c.free = p.now + p.lockout
+	return p.take(channel, amount, 0, 1), api.OK
+}
 
 // Rest tells what of an order was not given (P7).
-func (p *Pump) Rest(order int) (int, api.Errno) { return 0, api.OK }
+func (p *Pump) Rest(order int) (int, api.Errno) {
+	if !within(order, 1, len(p.orders)) {
+		return 0, api.ErrArg
+	}
+	return p.orders[order-1].rest, api.OK
+}
 
 // Pause lets a channel rest (P8).
-func (p *Pump) Pause(channel int) api.Errno { return api.OK }
+func (p *Pump) Pause(channel int) api.Errno {
+	return p.setResting(channel, true)
+}
 
 // Resume lets it go on (P8).
-func (p *Pump) Resume(channel int) api.Errno { return api.OK }
+func (p *Pump) Resume(channel int) api.Errno {
+	return p.setResting(channel, false)
+}
+
+func (p *Pump) setResting(channel int, resting bool) api.Errno {
+	if !p.hasChannel(channel) {
+		return api.ErrArg
+	}
+	c := &p.channels[channel]
+	if c.resting == resting {
+		return api.ErrState
+	}
+	c.resting = resting
+	return api.OK
+}
 
 // Journal tells what was given (P9).
 func (p *Pump) Journal() string { return "" }

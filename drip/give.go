@@ -5,7 +5,7 @@ import "drip/api"
 // giveTick gives what the tick that comes next has for each channel, and adds the doses to those of the call.
 func (p *Pump) giveTick(doses []api.Dose) []api.Dose {
 	for k := range p.channels {
-		amount := min(p.channels[k].rate, p.room(k))
+		amount := min(p.channels[k].wants(p.now), p.room(k))
 		if amount == 0 {
 			continue
 		}
@@ -16,6 +16,7 @@ func (p *Pump) giveTick(doses []api.Dose) []api.Dose {
 }
 
 func (p *Pump) give(channel, amount int) {
+	p.channels[channel].share(p.now, amount)
 	for _, w := range p.windows {
 		if w.Counts(channel) {
 			w.Give(amount)

@@ -22,9 +22,19 @@ func wrong(near ...int) []int {
 
 func newPump(t *testing.T, channels int, limits ...api.Limit) *drip.Pump {
 	t.Helper()
-	p, e := drip.New(api.Config{Channels: channels, Limits: limits})
+	return pumpOf(t, api.Config{Channels: channels, Limits: limits})
+}
+
+func lockedPump(t *testing.T, channels, lockout int) *drip.Pump {
+	t.Helper()
+	return pumpOf(t, api.Config{Channels: channels, Lockout: lockout})
+}
+
+func pumpOf(t *testing.T, c api.Config) *drip.Pump {
+	t.Helper()
+	p, e := drip.New(c)
 	if p == nil || e != api.OK {
-		t.Fatalf("P3: New(%d, %v): %v, %d", channels, limits, p, e)
+		t.Fatalf("P3: New(%v): %v, %d", c, p, e)
 	}
 	return p
 }
@@ -82,5 +92,62 @@ func waitsForEver(t *testing.T, p *drip.Pump, channel, amount int) {
 	t.Helper()
 	if n, comes, e := p.Wait(channel, amount); n != 0 || comes || e != api.OK {
 		t.Errorf("P6: Wait(%d, %d) = %d, %v, %d, want never", channel, amount, n, comes, e)
+	}
+}
+
+func orders(t *testing.T, p *drip.Pump, number, channel, amount, delay, ticks int) {
+	t.Helper()
+	if n, e := p.Order(channel, amount, delay, ticks); n != number || e != api.OK {
+		t.Errorf("P7: Order(%d, %d, %d, %d) = %d, %d, want %d", channel, amount, delay, ticks, n, e, number)
+	}
+}
+
+func ordersNot(t *testing.T, p *drip.Pump, channel, amount, delay, ticks int, want api.Errno) {
+	t.Helper()
+	if n, e := p.Order(channel, amount, delay, ticks); n != 0 || e != want {
+		t.Errorf("P7: Order(%d, %d, %d, %d) = %d, %d, want error %d", channel, amount, delay, ticks, n, e, want)
+	}
+}
+
+func demands(t *testing.T, p *drip.Pump, number, channel, amount int) {
+	t.Helper()
+	if n, e := p.Demand(channel, amount); n != number || e != api.OK {
+		t.Errorf("P7: Demand(%d, %d) = %d, %d, want %d", channel, amount, n, e, number)
+	}
+}
+
+func demandsNot(t *testing.T, p *drip.Pump, channel, amount int, want api.Errno) {
+	t.Helper()
+	if n, e := p.Demand(channel, amount); n != 0 || e != want {
+		t.Errorf("P7: Demand(%d, %d) = %d, %d, want error %d", channel, amount, n, e, want)
+	}
+}
+
+// hasRests: of all orders there ever were, from the first one on.
+func hasRests(t *testing.T, p *drip.Pump, want ...int) {
+	t.Helper()
+	for i, w := range want {
+		if n, e := p.Rest(i + 1); n != w || e != api.OK {
+			t.Errorf("P7: Rest(%d) = %d, %d, want %d", i+1, n, e, w)
+		}
+	}
+	for _, number := range wrong(0, len(want)+1) {
+		if n, e := p.Rest(number); n != 0 || e != api.ErrArg {
+			t.Errorf("P7: Rest(%d) = %d, %d, want ErrArg", number, n, e)
+		}
+	}
+}
+
+func pauses(t *testing.T, p *drip.Pump, channel int, want api.Errno) {
+	t.Helper()
+	if e := p.Pause(channel); e != want {
+		t.Errorf("P8: Pause(%d): %d, want %d", channel, e, want)
+	}
+}
+
+func resumes(t *testing.T, p *drip.Pump, channel int, want api.Errno) {
+	t.Helper()
+	if e := p.Resume(channel); e != want {
+		t.Errorf("P8: Resume(%d): %d, want %d", channel, e, want)
 	}
 }

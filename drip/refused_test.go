@@ -26,11 +26,29 @@ func TestNoPanic(t *testing.T) {
 		for _, b := range extremes {
 			for _, c := range extremes {
 				p.Basal(a, b, c)
+				p.Order(a, b, c, c)
+				orderAndRun(t, a, b, c)
 			}
 			p.Wait(a, b)
+			p.Demand(a, b)
 		}
 		p.Room(a)
+		p.Rest(a)
+		p.Pause(a)
+		p.Resume(a)
 		p.Run(a)
+	}
+}
+
+// orderAndRun takes a new pump each time, as one that is full would refuse most of it.
+func orderAndRun(t *testing.T, amount, delay, ticks int) {
+	t.Helper()
+	p := newPump(t, 1)
+	if _, e := p.Order(0, amount, delay, ticks); e != api.OK {
+		return
+	}
+	for range api.MaxTicks / api.MaxRun {
+		p.Run(api.MaxRun)
 	}
 }
 
@@ -46,16 +64,20 @@ func TestChannelThatIsNone(t *testing.T) {
 				if ticks, comes, e := p.Wait(k, n); ticks != 0 || comes || e != api.ErrArg {
 					t.Errorf("P1: Wait(%d, %d) = %d, %v, %d", k, n, ticks, comes, e)
 				}
+				ordersNot(t, p, k, n, n, n, api.ErrArg)
+				demandsNot(t, p, k, n, api.ErrArg)
 			}
 			if n, e := p.Room(k); n != 0 || e != api.ErrArg {
 				t.Errorf("P1: Room(%d) = %d, %d", k, n, e)
 			}
+			pauses(t, p, k, api.ErrArg)
+			resumes(t, p, k, api.ErrArg)
 		}
 		hasRoom(t, p, channels-1, api.MaxDose)
 	}
 }
 
-// refuseAll makes calls all of which are refused; the pump has 2 channels and its now is 350.
+// refuseAll makes calls all of which are refused; the pump has 2 channels, of which the second one rests, and its now is 350.
 func refuseAll(t *testing.T, p *drip.Pump) {
 	t.Helper()
 	for _, n := range wrong(2, 3) {
@@ -83,21 +105,52 @@ func refuseAll(t *testing.T, p *drip.Pump) {
 	for _, n := range []int{51, 52, api.MaxRun} {
 		runsNot(t, p, n, api.ErrMany)
 	}
+	resumes(t, p, 0, api.ErrState)
+	pauses(t, p, 1, api.ErrState)
+	refuseOrders(t, p)
+}
+
+// refuseOrders: the pump has 2 channels, of which the first one is locked, and MaxOrders orders that are not over.
+func refuseOrders(t *testing.T, p *drip.Pump) {
+	t.Helper()
+	for _, n := range wrong(0) {
+		ordersNot(t, p, 0, n, 0, 1, api.ErrArg)
+		ordersNot(t, p, 0, 1, 0, n, api.ErrArg)
+		demandsNot(t, p, 0, n, api.ErrArg)
+		demandsNot(t, p, 1, n, api.ErrArg)
+	}
+	for _, n := range wrong() {
+		ordersNot(t, p, 0, 1, n, 1, api.ErrArg)
+		ordersNot(t, p, n, 1, 1, 1, api.ErrArg)
+		demandsNot(t, p, n, 1, api.ErrArg)
+	}
+	ordersNot(t, p, 0, 1, 0, 1, api.ErrMany)
+	ordersNot(t, p, 1, 1, 0, 1, api.ErrMany)
+	demandsNot(t, p, 0, 1, api.ErrLock)
+	demandsNot(t, p, 1, 1, api.ErrMany)
+}
+
+// busyPump: see what refuseAll asks for.
+func busyPump(t *testing.T) *drip.Pump {
+	t.Helper()
+	p := pumpOf(t, api.Config{Channels: 2, Limits: []api.Limit{{Channels: 3, Window: 7, Cap: 20}}, Lockout: 9})
+	quiet(t, p, 345)
+	sets(t, p, 0, 3, 9)
+	sets(t, p, 1, 2, 0)
+	demands(t, p, 1, 0, 2)
+	if _, e := p.Run(5); e != api.OK {
+		t.Fatalf("P5: Run(5): %d", e)
+	}
+	for number := 2; number <= api.MaxOrders+1; number++ {
+		orders(t, p, number, number%2, 5, number, 3)
+	}
+	pauses(t, p, 1, api.OK)
+	return p
 }
 
 // TestRefusedChangesNothing: P1: a pump that has refused goes on like its twin that was not asked.
 func TestRefusedChangesNothing(t *testing.T) {
-	start := func() *drip.Pump {
-		p := newPump(t, 2, api.Limit{Channels: 3, Window: 7, Cap: 20})
-		quiet(t, p, 345)
-		sets(t, p, 0, 3, 9)
-		sets(t, p, 1, 2, 0)
-		if _, e := p.Run(5); e != api.OK {
-			t.Fatalf("P5: Run(5): %d", e)
-		}
-		return p
-	}
-	asked, twin := start(), start()
+	asked, twin := busyPump(t), busyPump(t)
 	refuseAll(t, asked)
 	for k := range 2 {
 		n, e := asked.Room(k)
@@ -105,10 +158,30 @@ func TestRefusedChangesNothing(t *testing.T) {
 			t.Errorf("P1: Room(%d) = %d, %d, its twin's: %d, %d", k, n, e, m, f)
 		}
 	}
-	got, e := asked.Run(50)
-	want, f := twin.Run(50)
-	if !slices.Equal(got, want) || len(want) == 0 || e != api.OK || f != api.OK {
-		t.Errorf("P1: Run(50) = %v, %d, its twin's: %v, %d", got, e, want, f)
+	goOnAlike(t, asked, twin, 4)
+	resumes(t, asked, 1, api.OK)
+	resumes(t, twin, 1, api.OK)
+	demandsNot(t, asked, 1, 3, api.ErrMany)
+	goOnAlike(t, asked, twin, 6)
+	demands(t, asked, 10, 1, 3)
+	demands(t, twin, 10, 1, 3)
+	demands(t, asked, 11, 0, 3)
+	demands(t, twin, 11, 0, 3)
+	goOnAlike(t, asked, twin, 40)
+	for number := 1; number <= 11; number++ {
+		n, e := asked.Rest(number)
+		if m, f := twin.Rest(number); n != m || e != f {
+			t.Errorf("P1: Rest(%d) = %d, %d, its twin's: %d, %d", number, n, e, m, f)
+		}
 	}
 	runsNot(t, asked, 1, api.ErrMany)
+}
+
+func goOnAlike(t *testing.T, asked, twin *drip.Pump, ticks int) {
+	t.Helper()
+	got, e := asked.Run(ticks)
+	want, f := twin.Run(ticks)
+	if !slices.Equal(got, want) || len(want) == 0 || e != api.OK || f != api.OK {
+		t.Errorf("P1: Run(%d) = %v, %d, its twin's: %v, %d", ticks, got, e, want, f)
+	}
 }
