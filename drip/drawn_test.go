@@ -1,6 +1,7 @@
 package drip_test
 
 import (
+	"fmt"
 	"math/rand"
 	"slices"
 	"testing"
@@ -264,7 +265,27 @@ func brokenLimit(c api.Config, doses []api.Dose) bool {
 	return false
 }
 
-// TestDrawn: P4 to P8: the pump answers as the plain one, and no limit is broken in any window.
+// reopened: P9 and P10: the journal tells what the plain pump was given; a pump that is opened with it goes on as the plain one with nothing set.
+func reopened(t *testing.T, r *rand.Rand, p *drip.Pump, q *plain) (*drip.Pump, *plain) {
+	t.Helper()
+	text := ""
+	for _, d := range q.given {
+		text += fmt.Sprintf("%d %d %d\n", d.Tick, d.Channel, d.Amount)
+	}
+	tells(t, p, fmt.Sprintf("%s= %d\n", text, q.now))
+	q = &plain{config: q.config, now: q.now, given: q.given}
+	p = opens(t, q.config, p.Journal())
+	for k := range q.config.Channels {
+		q.resting[k] = true
+		if r.Intn(4) > 0 {
+			q.resting[k] = false
+			resumes(t, p, k, api.OK)
+		}
+	}
+	return p, q
+}
+
+// TestDrawn: P4 to P11: the pump answers as the plain one, and no limit is broken in any window.
 func TestDrawn(t *testing.T) {
 	r := rand.New(rand.NewSource(1))
 	for range 60 {
@@ -272,9 +293,12 @@ func TestDrawn(t *testing.T) {
 		p := pumpOf(t, q.config)
 		for range 400 {
 			sameAnswer(t, r, p, q)
+			if r.Intn(100) == 0 {
+				p, q = reopened(t, r, p, q)
+			}
 		}
 		if brokenLimit(q.config, q.given) {
-			t.Fatalf("P5: a limit of %v is broken by %v", q.config, q.given)
+			t.Fatalf("P11: a limit of %v is broken by %v", q.config, q.given)
 		}
 	}
 }

@@ -4,6 +4,7 @@ package drip
 import (
 	"drip/agenda"
 	"drip/api"
+	"drip/record"
 	"drip/window"
 )
 
@@ -14,8 +15,9 @@ type Pump struct {
 	channels []channelState
 	windows  []*window.Window
 	later    agenda.Agenda
-	orders   []*order // all there ever were, by their numbers: the rest of one that is over may still be asked for
-	notOver  int      // how many of them are not over
+	orders   []*order   // all there ever were, by their numbers: the rest of one that is over may still be asked for
+	notOver  int        // how many of them are not over
+	given    []api.Dose // all there ever were, in order, those ahead of Open too
 }
 
 // New makes a pump (P3).
@@ -52,12 +54,13 @@ func (p *Pump) Run(ticks int) ([]api.Dose, api.Errno) {
 	if p.now+ticks > api.MaxTicks {
 		return nil, api.ErrMany
 	}
-	var doses []api.Dose
+	before := len(p.given)
 	for range ticks {
-		doses = p.giveTick(doses)
+		p.giveTick()
 		p.pass()
 	}
-	return doses, api.OK
+	var doses []api.Dose
+	return append(doses, p.given[before:]...), api.OK
 }
 
 // Room tells how much could be given now (P6).
@@ -134,8 +137,30 @@ func (p *Pump) setResting(channel int, resting bool) api.Errno {
 	return api.OK
 }
 
+func (p *Pump) restAll() {
+	for k := range p.channels {
+		p.channels[k].resting = true
+	}
+}
+
 // Journal tells what was given (P9).
-func (p *Pump) Journal() string { return "" }
+func (p *Pump) Journal() string {
+	return record.Write(p.given, p.now)
+}
 
 // Open makes a pump that goes on from a journal (P10).
-func Open(c api.Config, journal string) (*Pump, int, api.Errno) { return nil, 0, api.OK }
+func Open(c api.Config, journal string) (*Pump, int, api.Errno) {
+	p, e := New(c)
+	if e != api.OK {
+		return nil, 0, e
+	}
+	doses, now, wrong := record.Read(journal, c.Channels)
+	if wrong > 0 {
+		return nil, wrong, api.ErrText
+	}
+	if broken := p.giveAgain(doses, now); broken > 0 {
+		return nil, broken, api.ErrLimit
+	}
+	p.restAll()
+	return p, 0, api.OK
+}

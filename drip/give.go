@@ -2,25 +2,41 @@ package drip
 
 import "drip/api"
 
-// giveTick gives what the tick that comes next has for each channel, and adds the doses to those of the call.
-func (p *Pump) giveTick(doses []api.Dose) []api.Dose {
+// giveTick gives what the tick that comes next has for each channel.
+func (p *Pump) giveTick() {
 	for k := range p.channels {
-		amount := min(p.channels[k].wants(p.now), p.room(k))
-		if amount == 0 {
-			continue
+		if amount := min(p.channels[k].wants(p.now), p.room(k)); amount > 0 {
+			p.give(k, amount)
 		}
-		p.give(k, amount)
-		doses = append(doses, api.Dose{Tick: p.now, Channel: k, Amount: amount})
 	}
-	return doses
 }
 
 func (p *Pump) give(channel, amount int) {
+	p.given = append(p.given, api.Dose{Tick: p.now, Channel: channel, Amount: amount})
 	p.channels[channel].share(p.now, amount)
 	for _, w := range p.windows {
 		if w.Counts(channel) {
 			w.Give(amount)
 		}
+	}
+}
+
+// giveAgain gives what a journal tells, and goes on to its now; the answer is the number (from 1) of the first dose that breaks a limit, 0 if none does.
+func (p *Pump) giveAgain(doses []api.Dose, now int) int {
+	for i, d := range doses {
+		p.passTo(d.Tick)
+		if d.Amount > p.room(d.Channel) {
+			return i + 1
+		}
+		p.give(d.Channel, d.Amount)
+	}
+	p.passTo(now)
+	return 0
+}
+
+func (p *Pump) passTo(tick int) {
+	for p.now < tick {
+		p.pass()
 	}
 }
 

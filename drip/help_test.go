@@ -151,3 +151,28 @@ func resumes(t *testing.T, p *drip.Pump, channel int, want api.Errno) {
 		t.Errorf("P8: Resume(%d): %d, want %d", channel, e, want)
 	}
 }
+
+func tells(t *testing.T, p *drip.Pump, want string) {
+	t.Helper()
+	if text := p.Journal(); text != want {
+		t.Errorf("P9: Journal() = %q, want %q", text, want)
+	}
+}
+
+// opens: a pump that was opened tells the journal that it was opened with.
+func opens(t *testing.T, c api.Config, text string) *drip.Pump {
+	t.Helper()
+	p, line, e := drip.Open(c, text)
+	if p == nil || line != 0 || e != api.OK {
+		t.Fatalf("P10: Open(%v, %.80q) = %v, %d, %d", c, text, p, line, e)
+	}
+	tells(t, p, text)
+	return p
+}
+
+func opensNot(t *testing.T, c api.Config, text string, want int, why api.Errno) {
+	t.Helper()
+	if p, line, e := drip.Open(c, text); p != nil || line != want || e != why {
+		t.Errorf("P10: Open(%v, %.80q) = %v, %d, %d, want %d, %d", c, text, p, line, e, want, why)
+	}
+}

@@ -7,17 +7,23 @@ import (
 	"drip/drip"
 )
 
+// takes: Open takes the configs that New takes.
 func takes(t *testing.T, c api.Config) {
 	t.Helper()
 	if p, e := drip.New(c); p == nil || e != api.OK {
 		t.Errorf("P3: New(%v): %v, %d", c, p, e)
 	}
+	opens(t, c, "= 0\n")
 }
 
+// refuses: Open refuses what New refuses, whatever the text is.
 func refuses(t *testing.T, c api.Config) {
 	t.Helper()
 	if p, e := drip.New(c); p != nil || e != api.ErrArg {
 		t.Errorf("P3: New(%v): %v, %d, want ErrArg", c, p, e)
+	}
+	for _, text := range []string{"= 0\n", "0 0 1\n= 1\n", "0 0 1000\n1 0 1000\n= 2\n", "", "x", "= 0\nx"} {
+		opensNot(t, c, text, 0, api.ErrArg)
 	}
 }
 

@@ -1,6 +1,7 @@
 package drip_test
 
 import (
+	"fmt"
 	"math"
 	"slices"
 	"testing"
@@ -28,6 +29,7 @@ func TestNoPanic(t *testing.T) {
 				p.Basal(a, b, c)
 				p.Order(a, b, c, c)
 				orderAndRun(t, a, b, c)
+				openNumbers(a, b, c)
 			}
 			p.Wait(a, b)
 			p.Demand(a, b)
@@ -50,6 +52,12 @@ func orderAndRun(t *testing.T, amount, delay, ticks int) {
 	for range api.MaxTicks / api.MaxRun {
 		p.Run(api.MaxRun)
 	}
+}
+
+func openNumbers(a, b, c int) {
+	drip.Open(api.Config{Channels: 4}, fmt.Sprintf("%d %d %d\n= %d\n", a, b, c, a+1))
+	drip.Open(api.Config{Channels: a, Lockout: b}, fmt.Sprintf("= %d\n", c))
+	drip.Open(api.Config{Channels: 4, Limits: []api.Limit{{Channels: a, Window: b, Cap: c}}}, "0 0 1\n= 400\n")
 }
 
 // TestChannelThatIsNone: P1: that is ErrArg, whatever else is asked.
@@ -152,6 +160,7 @@ func busyPump(t *testing.T) *drip.Pump {
 func TestRefusedChangesNothing(t *testing.T) {
 	asked, twin := busyPump(t), busyPump(t)
 	refuseAll(t, asked)
+	tells(t, asked, twin.Journal())
 	for k := range 2 {
 		n, e := asked.Room(k)
 		if m, f := twin.Room(k); n != m || e != f {
@@ -175,6 +184,7 @@ func TestRefusedChangesNothing(t *testing.T) {
 		}
 	}
 	runsNot(t, asked, 1, api.ErrMany)
+	tells(t, asked, twin.Journal())
 }
 
 func goOnAlike(t *testing.T, asked, twin *drip.Pump, ticks int) {
